@@ -1,0 +1,1 @@
+"""Whoseink: who wrote which sign of a strip that several write."""
