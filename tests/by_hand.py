@@ -118,6 +118,18 @@ def forth_and_live(writers, steps, said):
     return [sorted(set(lot)) for lot in forth], [sorted(set(lot)) for lot in live]
 
 
+def tellings_by_hand(writers, steps, said):
+    """The rising list of the tellings, by going through the rows of names, sign by sign."""
+    names = all_names(writers, steps)
+    rows = [()]
+    for _ in range(len([step for step in steps if isinstance(step, str)])):
+        longer = [(*row, name) for row in rows for name in names]
+        rows = [
+            row for row in longer if keeps(said, row) and stands_of_row(writers, steps, row) is not None
+        ]
+    return rows
+
+
 def stands_to(writers, signs, depth):
     """The stands to which rows of at most so many signs lead, with the least count of signs."""
     found = {}
@@ -152,3 +164,26 @@ def some_company(chance, most=3, density=0.5):
 def chances(many):
     """So many sources of chance, the same at each run."""
     return [random.Random(seed) for seed in range(many)]
+
+
+def some_scroll(chance, most=5):
+    """Writers, steps and confessions that the chance makes, of at most so many signs."""
+    row, steps = some_company(chance, density=0.7), []
+    latest = row
+    for _ in range(chance.randrange(most + 1)):
+        if chance.random() < 0.3:
+            latest = chance.sample(latest, chance.randrange(len(latest) + 1))
+            steps.append(latest)
+        if chance.random() < 0.2:
+            latest = some_company(chance, density=0.7)
+            steps.append(latest)
+        steps.append(chance.choice("aab"))
+    if chance.random() < 0.3:
+        steps.append(tuple(some_company(chance)))
+    many = len([step for step in steps if isinstance(step, str)])
+    names = all_names(row, steps)
+    said = [
+        (chance.randrange(many), chance.choice(names), chance.random() < 0.3)
+        for _ in range(chance.randrange(4)) if many
+    ]
+    return row, steps, said

@@ -13,6 +13,21 @@ FUNCTIONS = {
         "writer_text": "(writer)", "read_writer": "(text)",
     },
     "companies": {"carried": "(one, other, stand)"},
+    "tellings": {
+        "how_many": "(scroll)", "telling": "(scroll, *, number=0)", "number_of": "(scroll, names)",
+        "is_telling": "(scroll, names)", "may": "(scroll, at)", "must": "(scroll, at)",
+        "extreme": "(scroll, name, *, most=True)", "farthest": "(scroll, names)",
+    },
+    "papers": {"bar": "(scroll, at, name)", "is_bar": "(scroll, at, name, forth, live)"},
+    "delays": {
+        "twice": "(company, *, stamps=())", "delay": "(company, *, who=None, stamps=())",
+        "is_known": "(company, n, pairs, ranks, *, who=None, stamps=())",
+        "is_doubt": "(company, strip, one, other, many, *, who=None, stamps=())",
+        "is_ever": "(company, at, lead, ring, one, other, *, who=None, stamps=())",
+    },
+    "settling": {
+        "settle": "(scroll, at)", "settles": "(scroll, at, signs)", "is_never": "(scroll, at, table)",
+    },
 }
 METHODS = {
     ("companies", "Company"): {

@@ -2,7 +2,7 @@
 
 import unittest
 
-from by_hand import all_names, chances, company_row, forth_and_live, some_company
+from by_hand import all_names, chances, company_row, forth_and_live, some_scroll
 
 from whoseink.companies import Company
 from whoseink.errors import BadSaid, BadStep, NoSign
@@ -254,34 +254,13 @@ class Lots(unittest.TestCase):
     def test_against_all_rows_of_names(self):
         told = 0
         for chance in chances(250):
-            row, steps, said = self.some_scroll(chance)
+            row, steps, said = some_scroll(chance)
             made = Scroll(Company(row), steps=steps, said=said)
             forth, live = forth_and_live(row, steps, said)
             with self.subTest(row=row, steps=steps, said=said):
                 self.check(made, forth, live)
             told += live[0] != []
         self.assertTrue(60 < told < 240, told)
-
-    def some_scroll(self, chance):
-        row, steps = some_company(chance, density=0.7), []
-        latest = row
-        for _ in range(chance.randrange(6)):
-            if chance.random() < 0.3:
-                latest = chance.sample(latest, chance.randrange(len(latest) + 1))
-                steps.append(latest)
-            if chance.random() < 0.2:
-                latest = some_company(chance, density=0.7)
-                steps.append(latest)
-            steps.append(chance.choice("aab"))
-        if chance.random() < 0.3:
-            steps.append(tuple(some_company(chance)))
-        many = len([step for step in steps if isinstance(step, str)])
-        names = all_names(row, steps)
-        said = [
-            (chance.randrange(many), chance.choice(names), chance.random() < 0.3)
-            for _ in range(chance.randrange(4)) if many
-        ]
-        return row, steps, said
 
     def test_lots_of_a_company_of_many_stands(self):
         row = company_row("x/0a1;1a2;2a0/3/3 y/0a1;1a2;2a0/3/3 z/0a1;1a2;2a0/3/3")
