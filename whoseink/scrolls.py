@@ -67,6 +67,10 @@ class Scroll:
         added = _read_steps(steps)
         return Scroll(self._chains[0][0], steps=self._steps + added, said=self._said)
 
+    def freed(self):
+        """The Scroll without its confessions."""
+        return Scroll(self._chains[0][0], steps=self._steps)
+
     def turned(self, at, stand):
         """The stand, carried through the companies that come ahead of the sign of that number."""
         chain = self._chains[at]

@@ -1,6 +1,6 @@
 """Settling: whether some row of signs to come leaves just one name for a sign of a scroll."""
 
-from whoseink.companies import lot_behind
+from whoseink.companies import lot_behind, lots_behind, rises
 from whoseink.errors import TooMany, Unwritten
 from whoseink.tellings import may
 from whoseink.walks import next_level
@@ -44,7 +44,7 @@ def settles(scroll, at, signs):
 def is_never(scroll, at, table):
     """Whether the table, a list of tuples of lots, shows that no row settles the sign; NoSign."""
     names = may(scroll, at)
-    if not all([len(lots) == len(names) and all([_rises(lot) for lot in lots]) for lots in table]):
+    if not all([len(lots) == len(names) and all([rises(lot) for lot in lots]) for lots in table]):
         return False
     known = {tuple([tuple(lot) for lot in lots]): True for lots in table}
     if _lots_of(scroll, at, names) not in known:
@@ -56,10 +56,6 @@ def is_never(scroll, at, table):
         if not all([then in known for _, then in _leads(company, lots)]):
             return False
     return True
-
-
-def _rises(lot):
-    return all([one < other for one, other in zip(lot, lot[1:])])
 
 
 def _lots_of(scroll, at, names):
@@ -82,16 +78,6 @@ def _name_left(names, lots):
 
 def _leads(company, lots):
     """The rising list of (sign, lots behind it): each sign by which some lot goes on."""
-    goals = [_goals(company, lot) for lot in lots]
+    goals = [lots_behind(company, lot) for lot in lots]
     signs = sorted({sign for each in goals for sign in each})
     return [(sign, tuple([each.get(sign, ()) for each in goals])) for sign in signs]
-
-
-def _goals(company, lot):
-    """Of each sign by which the lot goes on, the rising lot behind it."""
-    behind = {}
-    for stand in lot:
-        for sign, _, then in company.steps(stand):
-            row = behind.setdefault(sign, {})
-            row[then] = True
-    return {sign: tuple(sorted(behind[sign])) for sign in behind}

@@ -5,12 +5,12 @@ from whoseink.errors import BadNumber, NoSign
 
 def how_many(scroll):
     """The number of tellings."""
-    return _counts(_ways(scroll))[0].get(_begin(scroll), 0)
+    return _counts(live_ways(scroll))[0].get(_begin(scroll), 0)
 
 
 def telling(scroll, *, number=0):
     """The telling of that number; BadNumber."""
-    ways = _ways(scroll)
+    ways = live_ways(scroll)
     counts = _counts(ways)
     stand = _begin(scroll)
     if not 0 <= number < counts[0].get(stand, 0):
@@ -29,7 +29,7 @@ def number_of(scroll, names):
     """The number of the telling, or None where the row of texts is none."""
     if not is_telling(scroll, names):
         return None
-    ways = _ways(scroll)
+    ways = live_ways(scroll)
     counts = _counts(ways)
     stand = _begin(scroll)
     number = 0
@@ -84,12 +84,7 @@ def need_sign(scroll, at):
         raise NoSign(at)
 
 
-def _begin(scroll):
-    # What comes ahead of the first sign is carried from noughts to noughts.
-    return scroll.company(0).begin()
-
-
-def _ways(scroll):
+def live_ways(scroll):
     """For each sign, and behind all, of each live stand the rising (name, live stand behind)."""
     live = scroll.live()
     ways = [{stand: [] for stand in live[-1]}]
@@ -100,6 +95,11 @@ def _ways(scroll):
             for stand in live[at]
         })
     return ways[::-1]
+
+
+def _begin(scroll):
+    # What comes ahead of the first sign is carried from noughts to noughts.
+    return scroll.company(0).begin()
 
 
 def _counts(ways):
@@ -131,7 +131,7 @@ def _goal(goals, name):
 
 def _dearest(scroll, worth):
     """The first one of the tellings whose signs are worth most in all, or None."""
-    ways = _ways(scroll)
+    ways = live_ways(scroll)
     # Of each stand: what the signs from there on are worth at most, and who writes them so.
     best = {stand: (0, ()) for stand in ways[-1]}
     for at in reversed(range(len(scroll))):
