@@ -293,6 +293,13 @@ class Told(Checks):
         self.shows(made, 1, names, [sums[0], [*sums[1], (half, 1)], [*sums[2], (half, 2)]], False)
         self.shows(made, 1, names, [[(half, 0)], sums[1], sums[2]], False)
 
+    def test_stands_of_another_count_of_writers(self):
+        made = scroll(FREE, "aa", [(0, "ann", True), (0, "bob", True)])
+        number, names, sums = let_go(made)
+        for odd in (((), (), (-1, 0)), ((0,), (0,), (-1, 0)), ((0,) * 3, (0,) * 3, (-1, 0))):
+            for at in (0, 1):
+                self.shows(made, number, names, sums[:at] + [[(odd, 0), *sums[at]]] + sums[at + 1:], False)
+
     def test_the_row(self):
         changed = 0
         for made, tellings, number, names, sums in self.each():

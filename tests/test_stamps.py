@@ -361,6 +361,7 @@ class Told(Checks):
         # A kind for nought more costs no more.
         self.shows(made, prices, 0, kinds + (("zoe", "a"),), shown, True)
         self.shows(made, prices, 0, (("zoe", "a"),) + kinds, shown, False)
+        self.shows(made, prices, 0, kinds + (("zoe", "a"),) * 2, shown, False)
 
     def test_no_kinds(self):
         made = company("ann/0a0/0/0 bob/0b0/0/0")
