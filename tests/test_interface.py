@@ -39,6 +39,8 @@ FUNCTIONS = {
     "clashes": {
         "let_go": "(scroll)", "breaks": "(scroll, names)", "is_least": "(scroll, number, names, sums)",
     },
+    "deeds": {"need_deed": "(deed)", "deed_text": "(deed)", "read_deed": "(text)"},
+    "pages": {"page": "(bench)", "read_page": "(text)"},
 }
 METHODS = {
     ("companies", "Company"): {
@@ -51,6 +53,21 @@ METHODS = {
         "said": "(self)", "lets": "(self, at, name)", "forth": "(self)", "live": "(self)",
         "more": "(self, steps)", "__len__": "(self)",
     },
+    ("bench", "Bench"): {
+        "__init__": "(self)", "do": "(self, deed)", "batch": "(self, deeds)",
+        "come": "(self, name, *, arrows=(), patience=0, cap=0)", "sign": "(self, sign)",
+        "said": "(self, at, name, *, so=True)", "undo": "(self)", "redo": "(self)", "deeds": "(self)",
+        "undone": "(self)", "known": "(self, count)", "twin": "(self)", "scroll": "(self)", "company": "(self)",
+        "confessions": "(self)", "may": "(self, at)", "many": "(self)", "lots": "(self)", "watches": "(self)",
+        "watched": "(self, at)", "notes": "(self)", "kept": "(self)", "made": "(self)", "__len__": "(self)",
+        "__eq__": "(self, other)", "__repr__": "(self)", "__str__": "(self)",
+    },
+    ("desk", "Desk"): {"__init__": "(self, *, table=None)", "bench": "(self)", "say": "(self, line)"},
+}
+
+BOUNDS = {
+    "writers": {"MOST_ARROWS": 9, "MOST_COUNT": 3}, "companies": {"MOST_WRITERS": 3, "MOST_STANDS": 60},
+    "scrolls": {"MOST_SIGNS": 24, "MOST_TURNS": 12}, "settling": {"MOST_TUPLES": 600}, "places": {"MOST_PLACES": 8},
 }
 
 
@@ -73,6 +90,12 @@ class Interface(unittest.TestCase):
                     self.assertEqual(str(inspect.signature(vars(told)[name])), expected)
 
 
+    def test_bounds(self):
+        for file, rows in BOUNDS.items():
+            module = importlib.import_module(f"whoseink.{file}")
+            self.assertEqual({name: getattr(module, name) for name in rows}, rows)
+
+
 class Files(unittest.TestCase):
 
     def test_sizes_and_characters(self):
@@ -91,6 +114,7 @@ class Files(unittest.TestCase):
         for path in sorted(PACKAGE.glob("*.py")):
             for node in ast.walk(ast.parse(path.read_text(encoding="utf-8"))):
                 self.assertNotIsInstance(node, ast.Import)
+                # No clock, no chance, no files: of what isn't its own the package has these alone.
                 if isinstance(node, ast.ImportFrom) and node.module not in ("heapq", "math", "itertools"):
                     home = importlib.import_module(node.module)
                     self.assertTrue(node.module.startswith("whoseink."))

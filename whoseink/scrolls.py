@@ -43,17 +43,23 @@ class Scroll:
 
     def forth(self):
         """The lots of stands, a lot for each sign and one behind all, come to by what is let."""
-        lot = [self.turned(0, self._chains[0][0].begin())]
-        lots = [lot]
-        for at in range(len(self._signs)):
-            lot = sorted({then for stand in lot for _, then in self.onward(at, stand)})
+        return self.forth_from([])
+
+    def forth_from(self, known):
+        """The lots of forth(), of which the first ones are known."""
+        lots = [list(lot) for lot in known] or [[self.turned(0, self._chains[0][0].begin())]]
+        for at in range(len(lots) - 1, len(self._signs)):
+            lot = sorted({then for stand in lots[at] for _, then in self.onward(at, stand)})
             lots.append(lot)
         return lots
 
     def live(self):
         """The lots of the stands through which a telling goes."""
-        forth = self.forth()
-        lots = [forth[-1]]
+        return self.live_of(self.forth())
+
+    def live_of(self, forth):
+        """The lots of live(), the lots of forth() being known."""
+        lots = [list(forth[-1])]
         for at in reversed(range(len(self._signs))):
             goals = {stand: True for stand in lots[-1]}
             lots.append([

@@ -5,7 +5,12 @@ from whoseink.errors import BadNumber, NoSign
 
 def how_many(scroll):
     """The number of tellings."""
-    return _counts(live_ways(scroll))[0].get(_begin(scroll), 0)
+    return count_of(scroll, scroll.live())
+
+
+def count_of(scroll, live):
+    """The number of tellings, the live lots being known."""
+    return _counts(_ways_of(scroll, live))[0].get(_begin(scroll), 0)
 
 
 def telling(scroll, *, number=0):
@@ -55,7 +60,11 @@ def is_telling(scroll, names):
 def may(scroll, at):
     """The rising list of the names that have the sign in some telling; NoSign."""
     need_sign(scroll, at)
-    live = scroll.live()
+    return names_of(scroll, scroll.live(), at)
+
+
+def names_of(scroll, live, at):
+    """The rising list of the names that have the sign in some telling, the live lots being known."""
     goals = {stand: True for stand in live[at + 1]}
     return sorted({name for stand in live[at] for name, then in scroll.onward(at, stand) if then in goals})
 
@@ -86,7 +95,10 @@ def need_sign(scroll, at):
 
 def live_ways(scroll):
     """For each sign, and behind all, of each live stand the rising (name, live stand behind)."""
-    live = scroll.live()
+    return _ways_of(scroll, scroll.live())
+
+
+def _ways_of(scroll, live):
     ways = [{stand: [] for stand in live[-1]}]
     for at in reversed(range(len(scroll))):
         goals = ways[-1]
