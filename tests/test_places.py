@@ -9,7 +9,7 @@ from whoseink.companies import Company
 from whoseink.errors import NoSign, TooMany
 from whoseink.places import MOST_PLACES, fewest, is_fewest, tells_all
 from whoseink.scrolls import Scroll
-from whoseink.tellings import how_many, telling
+from whoseink.tellings import how_many
 from whoseink.writers import read_writer
 
 ANN = read_writer("ann/0a1;1b0/2/0")

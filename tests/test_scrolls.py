@@ -2,7 +2,7 @@
 
 import unittest
 
-from by_hand import all_names, chances, company_row, forth_and_live, some_scroll
+from by_hand import chances, company_row, forth_and_live, some_scroll
 
 from whoseink.companies import Company
 from whoseink.errors import BadSaid, BadStep, NoSign
