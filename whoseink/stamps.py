@@ -10,7 +10,7 @@ def cheapest(company, prices, *, most=0):
 
     TooMany, then Still.
     """
-    doubt = _doubt(company, _kinds(prices, range(len(prices))), most)
+    doubt = _doubt(company, _kinds(prices, list(range(len(prices)))), most)
     if doubt is not None:
         # Kinds that are left out of a lot part no two tellings more: this one shows it of each lot.
         return ("none", [doubt])
